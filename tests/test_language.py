@@ -1,0 +1,165 @@
+"""The package keeps to the small part of Python that LANGUAGE.md tells.
+
+Each check bears the numbers of its rules. They see less than the rules ask: a first net, not the whole of it.
+"""
+
+import ast
+import builtins
+import pathlib
+import re
+import unittest
+
+PACKAGE = pathlib.Path(__file__).resolve().parent.parent / "twomakes"
+
+STATEMENTS = (
+    ast.Assign, ast.AugAssign, ast.If, ast.While, ast.For, ast.Return, ast.Break, ast.Continue, ast.Pass,
+    ast.Raise, ast.Try, ast.Expr, ast.FunctionDef, ast.ClassDef, ast.ImportFrom,
+)
+EXPRESSIONS = (
+    ast.Constant, ast.JoinedStr, ast.FormattedValue, ast.List, ast.Tuple, ast.Dict, ast.Set, ast.BinOp,
+    ast.UnaryOp, ast.Compare, ast.BoolOp, ast.IfExp, ast.Call, ast.Attribute, ast.Subscript, ast.Slice,
+    ast.ListComp, ast.Name, ast.Lambda,
+)
+OWN_NAMES = set(
+    "len range enumerate zip min max sum abs sorted reversed int str bool list tuple dict set frozenset "
+    "isinstance ord repr any all divmod Exception ValueError TypeError KeyError IndexError LookupError "
+    "ZeroDivisionError ArithmeticError OverflowError RuntimeError NotImplementedError AttributeError "
+    "StopIteration".split()
+)
+METHODS = set(
+    "append clear copy count endswith extend find get index insert isalnum isalpha isdigit islower isspace "
+    "isupper items join keys ljust lower lstrip partition pop remove replace reverse rfind rjust rpartition "
+    "rsplit rstrip setdefault split splitlines startswith strip update upper values zfill bit_length".split()
+)
+NOWHERE = set("register mro elements open input version_info with_traceback add_note".split())
+SPECIAL = {"__init__", "__eq__", "__repr__", "__str__", "__len__"}
+WORDS = re.compile(
+    r"\b(type|typing|typing_extensions|enum|Enum|IntEnum|StrEnum|Flag|IntFlag|Generic|Protocol|ABC|ABCMeta"
+    r"|namedtuple|NamedTuple|TypedDict|TYPE_CHECKING|abstractmethod)\b|dataclass|overload|contextmanager"
+)
+
+FILES = sorted(path for path in PACKAGE.rglob("*") if "__pycache__" not in path.parts)
+TEXTS = {path.name: path.read_text(encoding="utf-8") for path in FILES}
+TREES = {name: ast.parse(text) for name, text in TEXTS.items()}
+
+
+def methods(tree):
+    return [node for one in tree.body if isinstance(one, ast.ClassDef) for node in one.body]
+
+
+def bound_names(tree):
+    """All names that a file binds anywhere, but for methods."""
+    names = set()
+    for node in ast.walk(tree):
+        if isinstance(node, (ast.FunctionDef, ast.ClassDef)):
+            if node not in methods(tree):
+                names.add(node.name)
+        elif isinstance(node, ast.arg):
+            names.add(node.arg)
+        elif isinstance(node, ast.Name) and isinstance(node.ctx, ast.Store):
+            names.add(node.id)
+        elif isinstance(node, ast.alias):
+            names.add(node.asname or node.name)
+    return names
+
+
+def nodes():
+    for name, tree in TREES.items():
+        for node in ast.walk(tree):
+            yield f"{name}:{getattr(node, 'lineno', 0)}", node
+
+
+class Language(unittest.TestCase):
+    def test_l1_l14_files(self):
+        self.assertIn("__init__.py", TEXTS)
+        for path in FILES:
+            self.assertRegex(path.name, r"^[a-z0-9_]+\.py$")
+
+    def test_l2_l16_imports(self):
+        for at, node in nodes():
+            self.assertNotIsInstance(node, ast.Import, at)
+            if isinstance(node, ast.ImportFrom):
+                self.assertEqual(node.level, 0, at)
+                self.assertRegex(node.module, r"^twomakes\.[a-z0-9_]+$", at)
+                source = TREES[node.module.split(".")[1] + ".py"]
+                defined = {n.name for n in source.body if isinstance(n, (ast.FunctionDef, ast.ClassDef))}
+                defined |= {t.id for n in source.body if isinstance(n, ast.Assign) for t in n.targets}
+                self.assertLessEqual({alias.name for alias in node.names}, defined, at)
+
+    def test_l4_functions(self):
+        for at, node in nodes():
+            if isinstance(node, ast.arguments):
+                self.assertFalse(node.vararg or node.kwarg or node.kwonlyargs or node.posonlyargs, at)
+            if isinstance(node, (ast.FunctionDef, ast.ClassDef)):
+                self.assertEqual(node.decorator_list, [], at)
+
+    def test_l6_l7_statements_and_expressions(self):
+        for at, node in nodes():
+            if isinstance(node, ast.stmt):
+                self.assertIsInstance(node, STATEMENTS, at)
+            if isinstance(node, ast.expr):
+                self.assertIsInstance(node, EXPRESSIONS, at)
+            self.assertNotIsInstance(node, (ast.Div, ast.MatMult), at)
+            if isinstance(node, (ast.For, ast.While)):
+                self.assertEqual(node.orelse, [], at)
+            if isinstance(node, ast.Try):
+                self.assertEqual(node.finalbody, [], at)
+            if isinstance(node, ast.Assign):
+                self.assertEqual(len(node.targets), 1, at)
+            if isinstance(node, ast.ListComp):
+                self.assertEqual(len(node.generators), 1, at)
+                self.assertLessEqual(len(node.generators[0].ifs), 1, at)
+            if isinstance(node, ast.Constant):
+                self.assertIsInstance(node.value, (int, str, bool, type(None)), at)
+
+    def test_l8_l12_l15_names(self):
+        of_python = {name for name in dir(builtins) if not name.startswith("__")}
+        for at, node in nodes():
+            if isinstance(node, ast.Name) and node.id in of_python:
+                self.assertIn(node.id, OWN_NAMES, at)
+        for tree in TREES.values():
+            for name in bound_names(tree):
+                self.assertNotIn(name, of_python)
+                self.assertFalse(name.startswith("_"), name)
+
+    def test_l17_names_that_are_not_used(self):
+        for at, node in nodes():
+            for field in ("id", "attr", "name", "arg"):
+                name = getattr(node, field, None)
+                if isinstance(name, str):
+                    self.assertNotIn(name, NOWHERE, at)
+
+    def test_l10_sizes(self):
+        for name, text in TEXTS.items():
+            lines = text.splitlines()
+            self.assertLessEqual(len(lines), 400, name)
+            self.assertLessEqual(max(len(line) for line in lines), 120, name)
+        for at, node in nodes():
+            if isinstance(node, ast.FunctionDef):
+                self.assertLessEqual(node.end_lineno - node.lineno + 1, 40, at)
+
+    def test_l14_l17_l27_signs_and_words(self):
+        for name, text in TEXTS.items():
+            self.assertRegex(text, r"\A[\n -~]*\Z", name)
+            self.assertNotRegex(text, WORDS, name)
+        for at, node in nodes():
+            if isinstance(node, ast.Constant) and isinstance(node.value, str):
+                self.assertNotIn("%", node.value, at)
+
+    def test_l20_is(self):
+        for at, node in nodes():
+            if isinstance(node, ast.Compare):
+                for operator, right in zip(node.ops, node.comparators):
+                    if isinstance(operator, (ast.Is, ast.IsNot)):
+                        self.assertIsInstance(right, ast.Constant, at)
+                        self.assertIn(repr(right.value), ("None", "True", "False"), at)
+
+    def test_l25_methods(self):
+        own = {node.name for tree in TREES.values() for node in methods(tree) if isinstance(node, ast.FunctionDef)}
+        for at, node in nodes():
+            if isinstance(node, ast.Call) and isinstance(node.func, ast.Attribute):
+                self.assertIn(node.func.attr, METHODS | own | SPECIAL, at)
+
+
+if __name__ == "__main__":
+    unittest.main()

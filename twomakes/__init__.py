@@ -1,0 +1,1 @@
+"""Twomakes: two makes of one mill, held side by side."""
