@@ -154,6 +154,44 @@ class Language(unittest.TestCase):
                         self.assertIsInstance(right, ast.Constant, at)
                         self.assertIn(repr(right.value), ("None", "True", "False"), at)
 
+    def test_l15_locals_are_called_like_no_class_and_no_import(self):
+        for name, tree in TREES.items():
+            taken = {node.name for node in tree.body if isinstance(node, ast.ClassDef)}
+            taken |= {alias.name for node in tree.body if isinstance(node, ast.ImportFrom) for alias in node.names}
+            for node in ast.walk(tree):
+                if isinstance(node, ast.arg):
+                    self.assertNotIn(node.arg, taken, name)
+                if isinstance(node, ast.Name) and isinstance(node.ctx, ast.Store):
+                    self.assertNotIn(node.id, taken, name)
+
+    def test_l16_no_two_files_draw_from_one_another(self):
+        drawn = {
+            name: {n.module.split(".")[1] + ".py" for n in tree.body if isinstance(n, ast.ImportFrom)}
+            for name, tree in TREES.items()
+        }
+        while drawn:
+            free = [name for name, others in drawn.items() if not others & set(drawn)]
+            self.assertTrue(free, drawn)
+            for name in free:
+                del drawn[name]
+
+    def test_l5_l18_classes(self):
+        values = {
+            node.attr for _, node in nodes() if isinstance(node, ast.Attribute) and isinstance(node.ctx, ast.Store)
+        }
+        for name, tree in TREES.items():
+            for node in methods(tree):
+                self.assertIsInstance(node, (ast.FunctionDef, ast.Pass), name)
+                if isinstance(node, ast.FunctionDef):
+                    self.assertNotIn(node.name, values, name)
+        of_python = {word for kind in (str, int, list, dict, set, bytes, tuple) for word in dir(kind)}
+        self.assertEqual(values & of_python, set())
+
+    def test_l21_no_annotations(self):
+        for at, node in nodes():
+            self.assertIsNone(getattr(node, "annotation", None), at)
+            self.assertIsNone(getattr(node, "returns", None), at)
+
     def test_l25_methods(self):
         own = {node.name for tree in TREES.values() for node in methods(tree) if isinstance(node, ast.FunctionDef)}
         for at, node in nodes():

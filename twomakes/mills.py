@@ -4,6 +4,7 @@ from twomakes.errors import NoMill
 
 MOST_ROWS = 40
 MOST_BELLS = 4
+SPOTS = 8
 CELLS = 16
 WORTHS = 4294967296
 
