@@ -1,4 +1,4 @@
-"""What several tests need: lays and events in few words; many mills and what goes with them."""
+"""What several tests need: lays, terms and events in few words; many mills and what goes with them."""
 
 import random
 
@@ -11,11 +11,16 @@ WORDS = (
 )
 GREATEST_OF_LAY = (4, 8, 9, 5, 4, 4, 4, 4)
 LAY = ("width", "depth", "slow", "spread", "room", "queue", "look", "ebb")
+TERMS = {"width": 1, "room": 0, "queue": 1, "patience": 0, "longest": 0}
 WIDE = {"width": 4, "depth": 8}
 
 
 def lay(**numbers):
     return lay_of([numbers.get(name, 1) for name in LAY])
+
+
+def terms(**numbers):
+    return tuple({**TERMS, **numbers}.values())
 
 
 def end(beat, place, wrote=None):
@@ -79,6 +84,28 @@ def some_state(dice, mill):
 
 def some_lay(dice):
     return lay_of([dice.choice((1, most, 1 + dice.randrange(most))) for most in GREATEST_OF_LAY])
+
+
+def some_terms(dice):
+    return terms(
+        width=dice.choice((1, 1, 2, 3)), room=dice.choice((0, 1, 2, 5)), queue=dice.choice((1, 1, 2, 3)),
+        patience=dice.choice((0, 0, 1, 2, 5)), longest=dice.choice((0, 1, 2, 4)),
+    )
+
+
+def some_thing(dice, spots=8, cells=16):
+    kind, most = dice.choice((("spot", spots), ("cell", cells)))
+    return (kind, dice.randrange(most))
+
+
+def some_walk(dice, most, spots=8, cells=16):
+    """Steps of any form, whatever mill could have walked them."""
+    walk = []
+    for _ in range(most):
+        things = list(dict.fromkeys(some_thing(dice, spots, cells) for _ in range(dice.randrange(4))))
+        wrote = dice.choice((None, some_thing(dice, spots, cells), some_thing(dice, spots, cells)))
+        walk.append((dice.randrange(-1, 5), things, wrote))
+    return walk
 
 
 def some_pairs(dice, mill, most):

@@ -55,18 +55,28 @@ def bell(mill, state, k):
     return (mill[1][k], state[1], state[2], True, state[0])
 
 
-def run(mill, state, most, bells=None):
+# The state behind, and the moves: tuples (state ahead, bell, end), of which a bell
+# has no end and a row's end no bell.
+def moves_of(mill, state, most, bells):
     listed = [] if bells is None else bells
     ask_bells(mill, listed)
+    moves = []
     taken = 0
-    ends = []
     while True:
-        if is_next_due(listed, taken, len(ends), state[3]):
-            state = bell(mill, state, listed[taken][1])
+        ends = len(moves) - taken
+        if is_next_due(listed, taken, ends, state[3]):
+            k = listed[taken][1]
+            moves.append((state, k, None))
+            state = bell(mill, state, k)
             taken += 1
-        elif len(ends) >= most or rests(mill, state):
-            return (state, ends)
+        elif ends >= most or rests(mill, state):
+            return (state, moves)
         else:
             done = step(mill, state)
+            moves.append((state, None, done[1]))
             state = done[0]
-            ends.append(done[1])
+
+
+def run(mill, state, most, bells=None):
+    gone = moves_of(mill, state, most, bells)
+    return (gone[0], [end for ahead, k, end in gone[1] if end is not None])
