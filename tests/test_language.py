@@ -32,6 +32,16 @@ METHODS = set(
     "rsplit rstrip setdefault split splitlines startswith strip update upper values zfill bit_length".split()
 )
 NOWHERE = set("register mro elements open input version_info with_traceback add_note".split())
+NOT_AS_NAMES = set(
+    "attrgetter breakpoint builtins compile copyright credits delattr dir eval exec exit gc getattr globals hasattr "
+    "help id importlib license locals methodcaller os quit setattr super type vars sys".split()
+)
+WALKED_IN = set("list tuple dict sorted sum any all enumerate zip min max".split())
+CHANGING = set("append clear extend insert pop remove reverse setdefault update".split())
+KEYWORDS = {
+    "sorted": {"key", "reverse"}, "min": {"key", "default"}, "max": {"key", "default"}, "sum": {"start"},
+    "enumerate": {"start"}, "zip": {"strict"},
+}
 SPECIAL = {"__init__", "__eq__", "__repr__", "__str__", "__len__"}
 WORDS = re.compile(
     r"\b(type|typing|typing_extensions|enum|Enum|IntEnum|StrEnum|Flag|IntFlag|Generic|Protocol|ABC|ABCMeta"
@@ -67,6 +77,30 @@ def nodes():
     for name, tree in TREES.items():
         for node in ast.walk(tree):
             yield f"{name}:{getattr(node, 'lineno', 0)}", node
+
+
+def parents(tree):
+    return {child: node for node in ast.walk(tree) for child in ast.iter_child_nodes(node)}
+
+
+def calls(tree, names):
+    for node in ast.walk(tree):
+        if isinstance(node, ast.Call) and isinstance(node.func, ast.Name) and node.func.id in names:
+            yield node
+
+
+def method_calls(tree, names):
+    for node in ast.walk(tree):
+        if isinstance(node, ast.Call) and isinstance(node.func, ast.Attribute) and node.func.attr in names:
+            yield node
+
+
+def own_classes():
+    return {node.name for tree in TREES.values() for node in tree.body if isinstance(node, ast.ClassDef)}
+
+
+def top_values(tree):
+    return {node.targets[0].id: node.value for node in tree.body if isinstance(node, ast.Assign)}
 
 
 class Language(unittest.TestCase):
@@ -186,6 +220,125 @@ class Language(unittest.TestCase):
                     self.assertNotIn(node.name, values, name)
         of_python = {word for kind in (str, int, list, dict, set, bytes, tuple) for word in dir(kind)}
         self.assertEqual(values & of_python, set())
+
+    def test_l3_l15_the_top_of_a_module(self):
+        for name, tree in TREES.items():
+            bound = []
+            for place, node in enumerate(tree.body):
+                if place == 0:
+                    self.assertIsInstance(ast.literal_eval(node.value), str, name)
+                    continue
+                self.assertIsInstance(node, (ast.ImportFrom, ast.FunctionDef, ast.ClassDef, ast.Assign), name)
+                if isinstance(node, ast.ImportFrom):
+                    bound += [alias.name for alias in node.names]
+                    self.assertTrue(all(alias.asname is None for alias in node.names), name)
+                elif isinstance(node, ast.Assign):
+                    bound.append(node.targets[0].id)
+                    ast.literal_eval(node.value)
+                else:
+                    bound.append(node.name)
+            self.assertEqual(len(bound), len(set(bound)), name)
+            nested = [node for node in ast.walk(tree) if isinstance(node, (ast.ClassDef, ast.ImportFrom))]
+            self.assertEqual([node for node in nested if node not in tree.body], [], name)
+
+    def test_l15_lists_and_dicts_of_the_top_are_only_read(self):
+        for name, tree in TREES.items():
+            above = parents(tree)
+            kept = {key for key, value in top_values(tree).items() if isinstance(value, (ast.List, ast.Dict))}
+            for value in top_values(tree).values():
+                for node in ast.walk(value):
+                    self.assertTrue(node is value or not isinstance(node, (ast.List, ast.Dict)), name)
+            for node in ast.walk(tree):
+                if isinstance(node, ast.Name) and node.id in kept and isinstance(node.ctx, ast.Load):
+                    user = above[node]
+                    self.assertIsInstance(user, (ast.Subscript, ast.Compare, ast.For), f"{name}:{node.lineno}")
+                    if isinstance(user, ast.Subscript):
+                        self.assertIsInstance(user.ctx, ast.Load, f"{name}:{node.lineno}")
+
+    def test_l7_f_strings_and_l27_numbers(self):
+        for at, node in nodes():
+            if isinstance(node, ast.FormattedValue):
+                self.assertIsInstance(node.value, ast.Name, at)
+                self.assertIsNone(node.format_spec, at)
+            if isinstance(node, ast.BinOp) and isinstance(node.op, ast.Pow):
+                self.assertTrue(isinstance(node.right, ast.Constant) and 0 <= node.right.value <= 64, at)
+
+    def test_l6_plain_targets(self):
+        for at, node in nodes():
+            if isinstance(node, (ast.For, ast.comprehension)) and isinstance(node.target, ast.Tuple):
+                for part in node.target.elts:
+                    self.assertIsInstance(part, ast.Name, at)
+
+    def test_l17_not_as_names(self):
+        for at, node in nodes():
+            for field in ("id", "arg", "name"):
+                self.assertNotIn(getattr(node, field, None), NOT_AS_NAMES, at)
+
+    def test_l18_classes_are_called_or_stand_above(self):
+        for name, tree in TREES.items():
+            above = parents(tree)
+            for node in ast.walk(tree):
+                if isinstance(node, ast.Name) and node.id in own_classes():
+                    user = above[node]
+                    called = isinstance(user, ast.Call) and user.func is node
+                    self.assertTrue(called or isinstance(user, (ast.ClassDef, ast.ExceptHandler)), f"{name}:{node.lineno}")
+
+    def test_l19_errors(self):
+        for at, node in nodes():
+            if isinstance(node, ast.ExceptHandler):
+                self.assertIsInstance(node.type, ast.Name, at)
+                self.assertIn(node.type.id, own_classes() | {"KeyError", "ZeroDivisionError", "StopIteration"}, at)
+            if isinstance(node, ast.Raise):
+                self.assertIsInstance(node.exc, ast.Call, at)
+                self.assertIn(node.exc.func.id, own_classes(), at)
+
+    def test_l22_keywords_and_calls(self):
+        for name, tree in TREES.items():
+            above = parents(tree)
+            for node in ast.walk(tree):
+                if isinstance(node, ast.Call):
+                    allowed = KEYWORDS.get(getattr(node.func, "id", None), set())
+                    self.assertLessEqual({one.arg for one in node.keywords}, allowed, f"{name}:{node.lineno}")
+                if isinstance(node, ast.Name) and node.id in OWN_NAMES and not node.id[0].isupper():
+                    user = above[node]
+                    self.assertTrue(isinstance(user, ast.Call) and user.func is node, f"{name}:{node.lineno}")
+
+    def test_l23_walked_at_once(self):
+        for name, tree in TREES.items():
+            above = parents(tree)
+            walked = list(calls(tree, {"zip", "enumerate", "reversed", "range"}))
+            for node in walked + list(method_calls(tree, {"items", "keys", "values"})):
+                user = above[node]
+                looped = isinstance(user, (ast.For, ast.comprehension)) and user.iter is node
+                inside = isinstance(user, ast.Call) and getattr(user.func, "id", None) in WALKED_IN
+                self.assertTrue(looped or (inside and user.args[0] is node), f"{name}:{node.lineno}")
+
+    def test_l23_what_a_loop_walks_is_not_changed_in_it(self):
+        for name, tree in TREES.items():
+            for loop in ast.walk(tree):
+                if isinstance(loop, ast.For):
+                    source = {ast.unparse(node) for node in ast.walk(loop.iter) if isinstance(node, (ast.Name, ast.Attribute))}
+                    for body in loop.body:
+                        for node in method_calls(body, CHANGING):
+                            self.assertNotIn(ast.unparse(node.func.value), source, f"{name}:{node.lineno}")
+
+    def test_l24_sets(self):
+        for name, tree in TREES.items():
+            above = parents(tree)
+            for node in calls(tree, {"set", "frozenset"}):
+                user = above[node]
+                inside = isinstance(user, ast.Call) and user.func.id in ("sorted", "len") and not user.keywords
+                self.assertTrue(inside or isinstance(user, ast.Compare), f"{name}:{node.lineno}")
+            self.assertEqual([node for node in ast.walk(tree) if isinstance(node, ast.Set)], [], name)
+
+    def test_l25_methods_are_called_where_they_stand(self):
+        own = {node.name for tree in TREES.values() for node in methods(tree) if isinstance(node, ast.FunctionDef)}
+        for name, tree in TREES.items():
+            above = parents(tree)
+            for node in ast.walk(tree):
+                if isinstance(node, ast.Attribute) and node.attr in METHODS | own:
+                    user = above[node]
+                    self.assertTrue(isinstance(user, ast.Call) and user.func is node, f"{name}:{node.lineno}")
 
     def test_l21_no_annotations(self):
         for at, node in nodes():

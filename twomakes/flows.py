@@ -42,7 +42,7 @@ def last_writer(walk, time, thing):
     return None
 
 
-# For each step the steps that hand on to it.
+# For each step those that hand on to it, all in one pass: no cone need search back.
 def sources_of(walk):
     last = {}
     sources = []

@@ -31,7 +31,7 @@ def settled(diary):
     return ends
 
 
-# For each end the bells straight ahead of it; those behind the last end are left out.
+# A list for each end. Bells behind the last end are left out: with them no end is held.
 def bells_ahead(diary):
     lists = []
     bells = []
