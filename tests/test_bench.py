@@ -52,9 +52,9 @@ class Benches(unittest.TestCase):
 class ANewBench(Benches):
     def test_all_that_can_be_asked(self):
         self.hold(
-            [], text="open", ends_one_0="", ends_one_1="", ends_one_2="0", ends_two_100="0", bells_one_100="",
-            bells_two_0="", hold_one_0="right", hold_one_100="right", hold_two_100="right", side_0="alike",
-            side_100="alike", least_0="", least_25="", seen_0="alike", seen_25="alike",
+            [], text="open", ends_one_0="none", ends_one_1="none", ends_one_2="0", ends_two_100="0",
+            bells_one_100="none", bells_two_0="none", hold_one_0="right", hold_one_100="right", hold_two_100="right",
+            side_0="alike", side_100="alike", least_0="none", least_25="none", seen_0="alike", seen_25="alike",
         )
 
     def test_no_bell_can_be_rung(self):
@@ -122,7 +122,7 @@ class RowsThatTell(Benches):
         self.hold([mill, "ring 0 1"], bells_one_9="0:1", ends_one_9="2 0/s1/1 1 2 3", ends_two_9="2 0/s1/1 1 2 3")
         self.hold([mill, "ring 2 1", "ring 2 0"], bells_one_20="1:0 2:1", bells_two_20="1:0 2:1")
         self.hold([mill, "ring 2 1", "ring 2 1"], bells_one_20="1:1 2:1")
-        self.hold([mill, "ring 9999999999 1"], bells_one_100="", hold_one_100="right")
+        self.hold([mill, "ring 9999999999 1"], bells_one_100="none", hold_one_100="right")
 
     def test_bells_that_the_mill_has_not(self):
         for mill, rows in (
@@ -161,14 +161,15 @@ class RowsThatTell(Benches):
 
 class RowsThatAsk(Benches):
     def test_ends(self):
-        self.hold([SLOW_MILL], ends_one_0="", ends_one_1="", ends_one_2="0/s1/3", ends_one_3="0/s1/3 1/s2/owed",
-                  ends_one_4="0/s1/3 1/s2/9 2/c3/9", ends_one_100="0/s1/3 1/s2/9 2/c3/9 3")
+        self.hold([SLOW_MILL], ends_one_0="none", ends_one_1="none", ends_one_2="0/s1/3",
+                  ends_one_3="0/s1/3 1/s2/owed", ends_one_4="0/s1/3 1/s2/9 2/c3/9",
+                  ends_one_100="0/s1/3 1/s2/9 2/c3/9 3")
         mill = "mill lay 1 0 4; go 0 0; take 2 0 4"
         self.hold([mill, "spots 0 7"], ends_one_4="0/c4/7 1 2/s2/owed", ends_one_9="0/c4/7 1 2/s2/7")
 
     def test_bells(self):
         rows = [SLOW_MILL, "ring 2 0", "lay one" + WIDE]
-        self.hold(rows, bells_one_20="2:0", bells_one_2="", bells_one_3="2:0", bells_two_20="1:0")
+        self.hold(rows, bells_one_20="2:0", bells_one_2="none", bells_one_3="2:0", bells_two_20="1:0")
         self.hold(rows + ["ring 0 0", "ring 50 0"], bells_one_100="0:0 1:0 6:0")
 
     def test_hold(self):
@@ -202,9 +203,9 @@ class RowsThatAsk(Benches):
 
     def test_least(self):
         rows = [SLOW_MILL, "ring 2 0", "lay one" + WIDE]
-        self.hold(rows, least_0="", least_25="5/c3", least_2="2/s2")
+        self.hold(rows, least_0="none", least_25="5/c3", least_2="2/s2")
         self.hold(["mill put 1 3; put 1 4; put 2 5; lay 2 1 0"], least_25="1/s1 4/c4")
-        self.hold(["mill go 1 0"], least_25="")
+        self.hold(["mill go 1 0"], least_25="none")
 
     def test_least_counts_the_ends_of_make_one_with_its_slips(self):
         # with the slip make one goes a shorter way, so that the plain one has a shorter walk, too
@@ -223,7 +224,7 @@ class RowsThatAsk(Benches):
         self.hold(rows + ["slip two 1 -4"], seen_25="alike")
         self.hold(["mill put 1 3; put 1 4; put 2 5", "slip one 0 1"], seen_25="1 s1 : 0")
         self.hold(["mill put 1 3; put 1 4; put 2 5", "slip one 1 1"], seen_25="3 s1 : 1")
-        self.hold(["mill put 1 3; put 1 4; put 2 5", "slip one 1 1", "slip one 2 1"], seen_25="3 s1 s2 :")
+        self.hold(["mill put 1 3; put 1 4; put 2 5", "slip one 1 1", "slip one 2 1"], seen_25="3 s1 s2 : none")
 
     def test_seen_next(self):
         self.hold(["mill put 1 0; go 1 3; home; home", "slip one 0 1"], seen_25="2 next : 0")
@@ -246,6 +247,40 @@ class RowsThatAsk(Benches):
         for word in ("least", "seen"):
             bench.say(word + " 25")
             self.refuse(NoStep, bench, [f"{word} {m}" for m in (26, 27, 100, 101, 9999999999)])
+
+
+class NothingToTell(Benches):
+    """The last sentence of [40]: none stands where the ends, bells, holds or suspects would stand."""
+
+    def test_no_ends(self):
+        for rows in ([], [SLOW_MILL], [SLOW_MILL, "lay one" + WIDE, "lay two 4 8 9 5 4 4 4 4", "slip two 0 1"]):
+            self.hold(rows, ends_one_0="none", ends_two_0="none")
+        # a bell that is taken ahead of the first end is told, while there are no ends yet
+        self.hold([SLOW_MILL, "ring 0 0"], ends_one_1="none", ends_two_1="none", bells_one_1="0:0", bells_two_1="0:0")
+
+    def test_no_bells(self):
+        self.hold([SLOW_MILL], bells_one_0="none", bells_one_100="none", bells_two_0="none", bells_two_100="none")
+        self.hold([SLOW_MILL, "ring 5 0", "lay one" + WIDE], bells_one_4="none", bells_two_4="none", bells_two_20="4:0")
+        self.hold([SLOW_MILL, "ring 2 0", "clear"], bells_one_20="none", bells_two_20="none")
+
+    def test_no_holds(self):
+        self.hold(["mill put 1 3; put 2 4"], least_0="none", least_1="none", least_2="1/s1")
+        # there are ends, but they write nothing that could be held
+        self.hold(["mill shut; open; home"], ends_one_25="0 1 2", least_25="none", seen_25="alike")
+
+    def test_no_suspects(self):
+        mill = "mill put 0 1; put 1 1"
+        self.hold([mill, "slip one 0 1", "slip one 1 1"], seen_10="2 s0 s1 : none", seen_2="1 s0 : 0", seen_0="alike")
+        self.hold([mill, "slip two 0 1", "slip two 1 1"], seen_10="alike")
+        mill = "mill put 1 3; sum 3 1 1; put 2 5; sum 4 2 2"
+        self.hold([mill, "slip one 1 1", "slip one 3 1"], least_25="4/s3 4/s4", seen_25="4 s3 s4 : none")
+        # the way to the later cell leads over step 2, on which then both cells hang
+        mill = "mill put 1 3; lay 1 1 0; put 2 5; lay 2 2 0"
+        self.hold([mill, "slip one 1 1", "slip one 3 1"], least_25="4/c3 4/c5", seen_25="4 c3 c5 : 2")
+
+    def test_something_to_tell(self):
+        self.hold(["mill put 0 1; put 1 1", "slip one 0 1"], ends_one_10="0/s0/2 1/s1/1", least_10="2/s0 2/s1",
+                  seen_10="2 s0 : 0")
 
 
 class NoRows(Benches):

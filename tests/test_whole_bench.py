@@ -62,10 +62,10 @@ class Table:
         for place, wrote in settled(self.diary(make, m)):
             worth = "" if wrote is None else "owed" if wrote[2] is None else str(wrote[2])
             words.append(str(place) if wrote is None else f"{place}/{write_thing(wrote)}/{worth}")
-        return " ".join(words)
+        return " ".join(words) or "none"
 
     def bells(self, make, m):
-        return " ".join(f"{after}:{k}" for after, k in like_bells(self.diary(make, m)))
+        return " ".join(f"{after}:{k}" for after, k in like_bells(self.diary(make, m))) or "none"
 
     def hold(self, make, m):
         told = parting(self.mill, self.state(), self.rings, terms_of(self.lays[make]), self.diary(make, m))
@@ -83,7 +83,7 @@ class Table:
         return walk_of(self.mill, self.state(), count, like_bells(diary))
 
     def least(self, m):
-        return " ".join(f"{time}/{write_thing(thing)}" for time, thing in least_holds(self.walk(m)))
+        return " ".join(f"{time}/{write_thing(thing)}" for time, thing in least_holds(self.walk(m))) or "none"
 
     def seen(self, m):
         diary, walk = self.diary("one", m), self.walk(m)
@@ -91,7 +91,8 @@ class Table:
         told = first_seen(self.state(), plain, settled(diary), least_holds(walk))
         if told is None:
             return "alike"
-        return " ".join([str(told[0]), *map(write_thing, told[1]), ":", *map(str, suspects(walk, told))])
+        steps = suspects(walk, told) or ["none"]
+        return " ".join([str(told[0]), *map(write_thing, told[1]), ":", *map(str, steps)])
 
 
 class Many(unittest.TestCase):

@@ -76,16 +76,21 @@ def show_end(end):
     return "/".join([place, show_thing(wrote), worth])
 
 
+# An answer is never the empty text: a word stands where the words would stand that are not there.
+def show_words(words):
+    return " ".join(words) if len(words) > 0 else "none"
+
+
 def show_ends(ends):
-    return " ".join([show_end(end) for end in ends])
+    return show_words([show_end(end) for end in ends])
 
 
 def show_bells(bells):
-    return " ".join([f"{after}:{k}" for after, k in bells])
+    return show_words([f"{after}:{k}" for after, k in bells])
 
 
 def show_holds(holds):
-    return " ".join([str(time) + "/" + show_thing(thing) for time, thing in holds])
+    return show_words([str(time) + "/" + show_thing(thing) for time, thing in holds])
 
 
 # Where nothing is told that is wrong, the word handed in with it stands.
@@ -94,5 +99,5 @@ def show_cause(told, well):
 
 
 def show_seen(time, things, steps):
-    words = [str(time)] + [show_thing(thing) for thing in things] + [":"] + [str(i) for i in steps]
-    return " ".join(words)
+    words = [str(time)] + [show_thing(thing) for thing in things]
+    return " ".join(words + [":", show_words([str(i) for i in steps])])
